@@ -1,0 +1,1 @@
+"""Swornhall: crafts that swear, and runs that never break a word."""
