@@ -34,6 +34,14 @@ def copied_deed(deed):
     return tuple([list(part) if isinstance(part, list) else part for part in deed])
 
 
+def copied_craft(craft):
+    return Craft(craft.needs, craft.leaves, craft.deeds, craft.notes)
+
+
+def called_by(craft):
+    return [deed[1] for deed in craft.deeds if deed[0] == "call"]
+
+
 def right(craft):
     return oath_right(craft) and deeds_right(craft.deeds) and notes_right(craft)
 

@@ -3,6 +3,7 @@
 import copy
 import unittest
 
+from helping import fields, lists_in
 from swornhall.crafts import Craft, due_at, right
 from swornhall.lines import worth
 
@@ -43,18 +44,6 @@ def with_part(deed, spot, part):
 
 def lined_deeds():
     return [deed for deed in DEEDS if deed[0] in LINE_AT]
-
-
-def lists_in(value):
-    found = [value] if isinstance(value, list) else []
-    if isinstance(value, (list, tuple)):
-        for part in value:
-            found = found + lists_in(part)
-    return found
-
-
-def fields(craft):
-    return [craft.needs, craft.leaves, craft.deeds, craft.notes]
 
 
 class RightTest(unittest.TestCase):

@@ -7,7 +7,7 @@ import language_rules
 
 ROOT = pathlib.Path(__file__).resolve().parent.parent
 FOLDER = ROOT / "swornhall"
-NAMES = ("__init__.py", "errors.py", "lines.py", "crafts.py")
+NAMES = ("__init__.py", "errors.py", "lines.py", "crafts.py", "vouching.py", "hall.py", "runs.py")
 
 # What breaks a rule, by the rule's number: the text of a file sample.py.
 BROKEN = (
